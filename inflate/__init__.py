@@ -1,0 +1,1 @@
+"""Inflatefloor: floors that grow by rule, reckoned exactly."""
