@@ -23,9 +23,13 @@ def whole_sign(whole):
     return 0
 
 
+def is_whole(value):
+    return isinstance(value, int) and not isinstance(value, bool)
+
+
 def is_frame_size(m):
     # 8.0 would be found among the keys as 8 is, and a list cannot be sought there: so the kind is asked first.
-    return isinstance(m, int) and not isinstance(m, bool) and m in SQUARES
+    return is_whole(m) and m in SQUARES
 
 
 class Frame:

@@ -4,6 +4,7 @@ from inflate.frames import minus, plus
 
 ZERO = (0, 0)
 ORIGIN = (ZERO, ZERO)
+STAY = (0, 0, ORIGIN)
 
 
 def added(one, other):

@@ -1,13 +1,18 @@
 """A second way of reckoning, to hold the program's answers against.
 
 Numbers are told here as u + v times the root of d, u and v fractions, or as decimals of very many
-places; points by their two distances from the axes. None of it draws from the program.
+places; points by their two distances from the axes. None of it draws from the program, but `redrawn`, which makes
+new rules of those that are written here.
 """
 
 import random
 from decimal import Decimal, getcontext
 from fractions import Fraction
+from functools import lru_cache
 from math import comb, isqrt
+
+from inflate.frames import Frame
+from inflate.points import back, joined, moved, scaled
 
 SIZES = (4, 6, 8, 10, 12)
 ROOTS = {4: 1, 6: 1, 8: 2, 10: 5, 12: 3}
@@ -60,36 +65,49 @@ def rooted_sign(m, one):
         places *= 2
 
 
+@lru_cache(maxsize=None)
 def decimal_w(m):
     if m == 10:
         return (1 + Decimal(5).sqrt()) / 2
     return {4: Decimal(0), 6: Decimal(1), 8: Decimal(2).sqrt(), 12: Decimal(3).sqrt()}[m]
 
 
+@lru_cache(maxsize=None)
+def decimal_sine(m):
+    """How far z lies above 0."""
+    w = decimal_w(m)
+    return (1 - w * w / 4).sqrt()
+
+
+def decimal_value(m, number):
+    return number[0] + number[1] * decimal_w(m)
+
+
 def in_plane(m, point):
     """How far the point lies to the right of and above 0."""
-    w = decimal_w(m)
-    x, y = [a + b * w for a, b in point]
-    return x + y * w / 2, y * (1 - w * w / 4).sqrt()
+    x, y = [decimal_value(m, number) for number in point]
+    return x + y * decimal_w(m) / 2, y * decimal_sine(m)
 
 
 def plane_turned(m, place, r):
     """Turned step by step, to the right where r is below 0."""
-    w = decimal_w(m)
-    cosine = w / 2
-    sine = (1 - w * w / 4).sqrt() * (1 if r >= 0 else -1)
+    cosine = decimal_w(m) / 2
+    sine = decimal_sine(m) * (1 if r >= 0 else -1)
     right, up = place
     for _ in range(abs(r)):
         right, up = right * cosine - up * sine, right * sine + up * cosine
     return right, up
 
 
-def plane_moved(m, move, place):
-    turn, flip, off = move
+def plane_put(m, turn, flip, off_place, place):
     right, up = place
     right, up = plane_turned(m, (right, -up if flip else up), turn)
-    far_right, far_up = in_plane(m, off)
-    return right + far_right, up + far_up
+    return right + off_place[0], up + off_place[1]
+
+
+def plane_moved(m, move, place):
+    turn, flip, off = move
+    return plane_put(m, turn, flip, in_plane(m, off), place)
 
 
 def plane_side(one, other):
@@ -100,6 +118,90 @@ def plane_side(one, other):
 
 def same_place(one, other):
     return all(abs(p - q) < NEAR for p, q in zip(one, other))
+
+
+def plane_area(places):
+    """Twice the area, above 0 where the places come around to the left."""
+    return sum(one[0] * other[1] - one[1] * other[0] for one, other in zip(places, places[1:] + places[:1]))
+
+
+def plane_where(places, place):
+    """By the triangles between the place and the sides: together they are greater than the whole for who is outside."""
+    areas = [abs(plane_area([place, one, other])) for one, other in zip(places, places[1:] + places[:1])]
+    if sum(areas) > plane_area(places) + NEAR:
+        return -1
+    return 0 if min(areas) < NEAR else 1
+
+
+def plane_common(one, other):
+    """Twice the area that both have: what is left of the one when it is cut off along the sides of the other."""
+    rest = one
+    for start, end in zip(other, other[1:] + other[:1]):
+        kept = []
+        for place, after in zip(rest, rest[1:] + rest[:1]):
+            here, there = plane_area([start, end, place]), plane_area([start, end, after])
+            if here >= 0:
+                kept.append(place)
+            if (here > 0 > there) or (here < 0 < there):
+                share = here / (here - there)
+                kept.append(tuple(p + (q - p) * share for p, q in zip(place, after)))
+        rest = kept
+    return plane_area(rest) if rest else Decimal(0)
+
+
+def plane_side_between(one, other):
+    """The two ends of what sides of both have in common, or None."""
+    for start, end in zip(one, one[1:] + one[:1]):
+        for begin, stop in zip(other, other[1:] + other[:1]):
+            if max(abs(plane_area([start, end, place])) for place in (begin, stop)) < NEAR:
+                along = [(place[0] - start[0]) * (end[0] - start[0]) + (place[1] - start[1]) * (end[1] - start[1])
+                         for place in (start, end, begin, stop)]
+                low, high = max(along[0], min(along[2:])), min(along[1], max(along[2:]))
+                if high - low > NEAR:
+                    length = along[1]
+                    return [tuple(p + (q - p) * far / length for p, q in zip(start, end)) for far in (low, high)]
+    return None
+
+
+def plane_piece(m, move, places):
+    answer = [plane_moved(m, move, place) for place in places]
+    return answer[::-1] if move[1] else answer
+
+
+def plane_lack(told):
+    """The lack of the rule told by (m, scale, shapes, cuts), the number of a gap as twice an area of the plane."""
+    m, scale, shapes, cuts = told
+    places = [[in_plane(m, corner) for corner in shape] for shape in shapes]
+    times = decimal_value(m, scale)
+    for kind, cut in enumerate(cuts):
+        whole = [(right * times, up * times) for right, up in places[kind]]
+        parts = [plane_piece(m, move, places[part_kind]) for part_kind, move in cut]
+        for number, part in enumerate(parts):
+            if min(plane_where(whole, place) for place in part) == -1:
+                return "outside", kind, number
+        for one in range(len(parts)):
+            for other in range(one + 1, len(parts)):
+                if plane_common(parts[one], parts[other]) > NEAR:
+                    return "overlap", kind, one, other
+        rest = plane_area(whole) - sum(plane_area(part) for part in parts)
+        if abs(rest) > NEAR:
+            return "gap", kind, rest
+    return None
+
+
+def plane_floor(told, kind, n):
+    """Rows (address, kind, places), from the greatest parts to the least ones, as point 15 has it."""
+    m, scale, shapes, cuts = told
+    if n == 0:
+        return [((), kind, [in_plane(m, corner) for corner in shapes[kind]])]
+    times = decimal_value(m, scale) ** (n - 1)
+    rows = []
+    for number, (part_kind, (turn, flip, off)) in enumerate(cuts[kind]):
+        right, up = in_plane(m, off)
+        for address, last_kind, places in plane_floor(told, part_kind, n - 1):
+            put = [plane_put(m, turn, flip, (right * times, up * times), place) for place in places]
+            rows.append(((number,) + address, last_kind, put[::-1] if flip else put))
+    return rows
 
 
 def source(word):
@@ -122,6 +224,43 @@ def some_point(draw, m):
 
 def some_move(draw, m):
     return (draw.randrange(m), draw.randrange(2), some_point(draw, m))
+
+
+def some_small(draw, m):
+    return (draw.randrange(-9, 10), 0 if m in (4, 6) else draw.randrange(-9, 10))
+
+
+def some_shape(draw, m, count):
+    """The corners of the hull of some small points, drawn until they are as many as asked for."""
+    while True:
+        points = [(some_small(draw, m), some_small(draw, m)) for _ in range(count + draw.randrange(3))]
+        shape = hull_of(m, points)
+        if len(shape) == count:
+            return shape
+
+
+def hull_of(m, points):
+    """The corners of the hull as they come around it to the left, none amid a side; begun at the leftmost one.
+
+    How points lie around one another is the same where z is drawn upright; then like numbers give like places.
+    """
+    drawn = {tuple(decimal_value(m, number) for number in point): point for point in points}
+    corners = []
+    for row in (sorted(drawn), sorted(drawn, reverse=True)):
+        half = []
+        for place in row:
+            while len(half) > 1 and plane_area([half[-2], half[-1], place]) < NEAR:
+                half.pop()
+            half.append(place)
+        corners += half[:-1]
+    return [drawn[place] for place in corners]
+
+
+def goes_around(m, points):
+    """Whether the points are all corners of their hull, in its order, each once."""
+    hull = hull_of(m, points)
+    start = points.index(hull[0]) if hull else 0
+    return hull == points[start:] + points[:start]
 
 
 def is_whole(value):
@@ -155,3 +294,377 @@ def answers_side_by_side(make, answers):
             other = make(second)
             rows += [(answers(one), alone[first]), (answers(other), alone[second]), (answers(one), alone[first])]
     return rows
+
+
+def read_number(text):
+    a, _, b = text.partition(",")
+    return (int(a), int(b or 0))
+
+
+def read_point(text):
+    x, y = text.split(":")
+    return (read_number(x), read_number(y))
+
+
+def read(text):
+    """What a rule written as below is made of: m, scale, shapes and cuts, all lists new ones."""
+    shapes, cuts = [], []
+    for line in text.split("\n"):
+        word, *rest = line.split(" ")
+        if word == "frame":
+            m = int(rest[0])
+        elif word == "scale":
+            scale = read_number(rest[0])
+        elif word == "shape":
+            shapes.append([read_point(point) for point in rest])
+        elif word == "cut":
+            cuts.append([])
+        else:
+            kind, turn, flip = [int(number) for number in rest[:3]]
+            cuts[-1].append((kind, (turn, flip, read_point(rest[3]))))
+    return m, scale, shapes, cuts
+
+
+def full(name):
+    return read(FULL[name])
+
+
+def redrawn(draw, told):
+    """The same rule, each shape turned, perhaps mirrored, put elsewhere and begun elsewhere, the parts in any order."""
+    m, scale, shapes, cuts = told
+    frame = Frame(m)
+    moves = [(draw.randrange(m), draw.randrange(2), (some_small(draw, m), some_small(draw, m))) for _ in shapes]
+    new_shapes, new_cuts = [], []
+    for (turn, flip, off), shape, cut in zip(moves, shapes, cuts):
+        corners = [moved(frame, (turn, flip, off), corner) for corner in shape][::-1 if flip else 1]
+        start = draw.randrange(len(corners))
+        new_shapes.append(corners[start:] + corners[:start])
+        great = (turn, flip, scaled(frame, off, scale))
+        parts = [(kind, joined(frame, back(frame, moves[kind]), joined(frame, move, great))) for kind, move in cut]
+        draw.shuffle(parts)
+        new_cuts.append(parts)
+    return m, scale, new_shapes, new_cuts
+
+
+# Rules that lack nothing.
+FULL = {
+    "square in four": """frame 4
+scale 2
+shape 0:0 1:0 1:1 0:1
+cut
+part 0 0 0 0:0
+part 0 0 0 1:0
+part 0 0 0 1:1
+part 0 0 0 0:1""",
+    "square in nine": """frame 4
+scale 3
+shape 0:0 1:0 1:1 0:1
+cut
+part 0 0 0 0:0
+part 0 0 0 2:0
+part 0 0 0 2:2
+part 0 0 0 0:2
+part 0 0 0 1:0
+part 0 0 0 1:1
+part 0 0 0 0:1
+part 0 0 0 2:1
+part 0 0 0 1:2""",
+    "domino in four": """frame 4
+scale 2
+shape 0:0 2:0 2:1 0:1
+cut
+part 0 1 0 1:0
+part 0 0 0 1:0
+part 0 0 1 1:2
+part 0 3 0 3:2""",
+    "half square in four": """frame 4
+scale 2
+shape 0:0 1:0 0:1
+cut
+part 0 0 0 0:0
+part 0 0 0 1:0
+part 0 0 0 0:1
+part 0 2 0 1:1""",
+    "squares 300": """frame 4
+scale 2
+shape 0:0 1:0 1:1 0:1
+shape 0:0 2:0 2:2 0:2
+shape 0:0 3:0 3:3 0:3
+shape 0:0 4:0 4:4 0:4
+cut
+part 0 0 0 0:0
+part 0 0 0 1:0
+part 0 0 0 0:1
+part 0 0 0 1:1
+cut
+part 0 0 0 0:0
+part 0 0 0 1:0
+part 0 0 0 2:0
+part 0 0 0 3:0
+part 0 0 0 0:1
+part 0 0 0 1:1
+part 0 0 0 2:1
+part 0 0 0 3:1
+part 1 0 0 0:2
+part 1 0 0 2:2
+cut
+part 0 0 0 0:0
+part 0 0 0 1:0
+part 0 0 0 2:0
+part 0 0 0 3:0
+part 1 0 0 4:0
+part 0 0 0 0:1
+part 0 0 0 1:1
+part 0 0 0 2:1
+part 0 0 0 3:1
+part 1 0 0 0:2
+part 3 0 0 2:2
+part 1 0 0 0:4
+cut
+part 3 0 0 0:0
+part 3 0 0 4:0
+part 3 0 0 0:4
+part 3 0 0 4:4""",
+    "squares 301": """frame 4
+scale 2
+shape 0:0 1:0 1:1 0:1
+shape 0:0 2:0 2:2 0:2
+shape 0:0 3:0 3:3 0:3
+shape 0:0 4:0 4:4 0:4
+cut
+part 0 0 0 0:0
+part 0 0 0 1:0
+part 0 0 0 0:1
+part 0 0 0 1:1
+cut
+part 0 0 0 0:0
+part 0 0 0 1:0
+part 0 0 0 2:0
+part 0 0 0 3:0
+part 0 0 0 0:1
+part 2 0 0 1:1
+part 0 0 0 0:2
+part 0 0 0 0:3
+cut
+part 0 0 0 0:0
+part 0 0 0 1:0
+part 0 0 0 2:0
+part 0 0 0 3:0
+part 1 0 0 4:0
+part 0 0 0 0:1
+part 0 0 0 1:1
+part 0 0 0 2:1
+part 0 0 0 3:1
+part 1 0 0 0:2
+part 3 0 0 2:2
+part 1 0 0 0:4
+cut
+part 1 0 0 0:0
+part 1 0 0 2:0
+part 3 0 0 4:0
+part 1 0 0 0:2
+part 1 0 0 2:2
+part 3 0 0 0:4
+part 3 0 0 4:4""",
+    "squares 300 thrice": """frame 4
+scale 2
+shape 0:0 1:0 1:1 0:1
+shape 0:0 2:0 2:2 0:2
+shape 0:0 3:0 3:3 0:3
+shape 0:0 4:0 4:4 0:4
+cut
+part 1 0 0 0:0
+cut
+part 0 0 0 0:0
+part 0 0 0 1:0
+part 0 0 0 2:0
+part 0 0 0 3:0
+part 0 0 0 0:1
+part 2 0 0 1:1
+part 0 0 0 0:2
+part 0 0 0 0:3
+cut
+part 0 0 0 0:0
+part 0 0 0 1:0
+part 1 0 0 2:0
+part 1 0 0 4:0
+part 0 0 0 0:1
+part 0 0 0 1:1
+part 1 0 0 0:2
+part 3 0 0 2:2
+part 1 0 0 0:4
+cut
+part 1 0 0 0:0
+part 1 0 0 2:0
+part 1 0 0 4:0
+part 1 0 0 6:0
+part 1 0 0 0:2
+part 2 0 0 2:2
+part 2 0 0 5:2
+part 1 0 0 0:4
+part 2 0 0 2:5
+part 2 0 0 5:5
+part 1 0 0 0:6""",
+    "triangle in four": """frame 6
+scale 2
+shape 0:0 1:0 0:1
+cut
+part 0 0 0 0:0
+part 0 0 0 1:0
+part 0 0 0 0:1
+part 0 1 0 1:0""",
+    "triangle in nine": """frame 6
+scale 3
+shape 0:0 1:0 0:1
+cut
+part 0 0 0 0:0
+part 0 0 0 2:0
+part 0 0 0 0:2
+part 0 0 0 1:0
+part 0 1 0 1:0
+part 0 0 0 0:1
+part 0 1 0 2:0
+part 0 0 0 1:1
+part 0 1 0 1:1""",
+    "hexagon in six": """frame 6
+scale 2
+shape 0:0 1:0 1:1 0:2 -1:2 -1:1
+shape 0:0 2:0 0:2
+cut
+part 1 0 0 0:0
+part 1 1 0 0:0
+part 1 1 0 2:0
+part 1 0 0 0:2
+part 1 1 0 0:2
+part 1 0 0 -2:2
+cut
+part 1 0 0 0:0
+part 1 0 0 2:0
+part 1 0 0 0:2
+part 1 1 0 2:0""",
+    "half hexagon in four": """frame 6
+scale 2
+shape 0:0 2:0 1:1 0:1
+cut
+part 0 4 0 0:2
+part 0 2 0 4:0
+part 0 3 0 2:2
+part 0 0 0 1:0""",
+    "half square in two": """frame 8
+scale 0,1
+shape 0:0 1:0 -1:0,1
+cut
+part 0 3 0 0:1
+part 0 5 0 0:1""",
+    "rectangle in two": """frame 8
+scale 0,1
+shape 0:0 0,1:0 -1,1:0,1 -1:0,1
+cut
+part 0 2 0 1:0
+part 0 2 0 2:0""",
+    "octagonal": """frame 8
+scale 1,1
+shape 0:0 1:0 1:1 0:1
+shape 0:0 1:0 -1:0,1
+cut
+part 0 0 0 0:0
+part 0 1 0 1,1:0
+part 0 2 0 1,1:0
+part 1 5 0 1:1
+part 1 6 0 0,1:1,1
+part 1 1 0 0,1:0,1
+part 1 2 0 1:1
+cut
+part 0 0 0 0:0
+part 0 1 0 0:0
+part 1 5 0 1:1
+part 1 3 0 -1:1,1
+part 1 0 0 0:1""",
+    "slow half squares": """frame 8
+scale 0,1
+shape 0:0 1:0 -1:0,1
+shape 0:0 0,1:0 0,-1:2
+shape 0:0 2:0 -2:0,2
+shape 0:0 0,2:0 0,-2:4
+cut
+part 1 0 0 0:0
+cut
+part 2 0 0 0:0
+cut
+part 3 0 0 0:0
+cut
+part 3 3 0 0:0,2
+part 3 5 0 0:0,2""",
+    "golden in three and two": """frame 10
+scale 0,1
+shape 0:0 0,1:0 0:0,1
+shape 0:0 0,1:0 0:1
+cut
+part 0 0 0 0:0
+part 0 3 0 1,1:0
+part 1 4 0 1,1:0
+cut
+part 0 0 0 0:0
+part 1 4 0 1,1:0""",
+    "golden in two and three": """frame 10
+scale 0,1
+shape 0:0 0,1:0 0:0,1
+shape 0:0 1,1:0 0:0,1
+cut
+part 0 3 0 1,1:0
+part 1 0 0 0:0
+cut
+part 0 3 0 1,1:0
+part 1 0 0 0:0
+part 1 4 0 1,2:0""",
+    "pentagon in three": """frame 10
+scale 0,1
+shape 0:0 1:0 0:0,1 0,-1:1,1 0,-1:0,1
+shape 0:0 1,1:0 0:1,1
+shape 0:0 1,1:0 0:0,1
+cut
+part 1 1 0 0:0
+part 2 2 0 0:0
+part 2 6 0 0:1,1
+cut
+part 1 0 0 0:0
+part 1 3 0 1,2:0
+part 2 4 0 1,2:0
+cut
+part 1 0 0 0:0
+part 2 4 0 1,2:0""",
+    "right triangle in three": """frame 12
+scale 0,1
+shape 0:0 0,1:0 0,-1:2
+cut
+part 0 3 1 0:0
+part 0 11 1 0:0,1
+part 0 5 0 0:0,1""",
+    "rectangle in three": """frame 12
+scale 0,1
+shape 0:0 0,1:0 0:2 0,-1:2
+cut
+part 0 3 0 1:0
+part 0 3 0 3:0
+part 0 3 0 2:0""",
+    "hexagon in six by root 3": """frame 12
+scale 0,1
+shape 0:0 1:0 0:0,1 -2:0,2 -3:0,2 -2:0,1
+shape 0:0 0,1:0 0,-1:3
+shape 0:0 0,1:0 0:3
+cut
+part 1 0 0 0:0
+part 1 2 0 0:0
+part 1 2 0 0,1:0
+part 1 0 0 0,-1:3
+part 1 2 0 0,-1:3
+part 1 0 0 0,-2:3
+cut
+part 2 1 0 0:0
+part 2 5 0 3:0
+part 2 9 0 -3:0,3
+cut
+part 1 3 0 3:0
+part 2 5 0 3:0
+part 2 7 0 0:0,3""",
+}

@@ -14,6 +14,10 @@ ArithmeticError OverflowError RuntimeError NotImplementedError AttributeError St
 OWN_METHODS = """append clear copy count endswith extend find get index insert isalnum isalpha isdigit islower isspace
 isupper items join keys ljust lower lstrip partition pop remove replace reverse rfind rjust rpartition rsplit rstrip
 setdefault split splitlines startswith strip update upper values zfill bit_length""".split()
+WALKED = "zip enumerate reversed range items keys values".split()
+WALKERS = "list tuple dict sorted sum any all enumerate zip min max join".split()
+KEYWORDS = {"sorted": ("key", "reverse"), "min": ("key", "default"), "max": ("key", "default"), "sum": ("start",),
+            "enumerate": ("start",), "zip": ("strict",)}
 UNDERSCORED = ("__init__", "__eq__", "__repr__", "__str__", "__len__")
 NODES = """Module FunctionDef ClassDef Return Assign AugAssign For While If Raise Try ImportFrom alias Expr Pass Break
 Continue ExceptHandler arguments arg keyword BoolOp And Or BinOp Add Sub Mult FloorDiv Mod Pow BitAnd BitOr BitXor
@@ -35,6 +39,10 @@ def trees():
 
 def nodes(*kinds):
     return [(path, node) for path, tree in trees() for node in ast.walk(tree) if isinstance(node, kinds)]
+
+
+def called(node):
+    return getattr(node.func, "id", getattr(node.func, "attr", None))
 
 
 def bound_at_top(tree):
@@ -103,6 +111,33 @@ class LanguageTest(unittest.TestCase):
                           for path, node in nodes(ast.BinOp) if isinstance(node.op, ast.Pow)])
         self.each("L27", [(path, node, "%" not in node.value)
                           for path, node in nodes(ast.Constant) if isinstance(node.value, str)])
+
+    def test_statements_of_their_own(self):
+        for path, tree in trees():
+            inner = [node for top in tree.body[1:] for node in ast.walk(top) if isinstance(node, ast.Expr)]
+            self.each("L6", [(path, node, isinstance(node.value, ast.Call)) for node in inner])
+
+    def test_walked_at_once(self):
+        for path, tree in trees():
+            walked = [node.iter for node in ast.walk(tree) if isinstance(node, (ast.For, ast.comprehension))]
+            walked += [node.args[0] for node in ast.walk(tree)
+                       if isinstance(node, ast.Call) and called(node) in WALKERS and node.args]
+            self.each("L23", [(path, node, any(node is other for other in walked)) for node in ast.walk(tree)
+                              if isinstance(node, ast.Call) and called(node) in WALKED])
+
+    def test_sets_and_keywords_and_errors(self):
+        self.each("L24", [(path, node, called(node) not in ("set", "frozenset")) for path, node in nodes(ast.Call)])
+        self.each("L22", [(path, node, keyword.arg in KEYWORDS.get(called(node), ()))
+                          for path, node in nodes(ast.Call) for keyword in node.keywords])
+        self.each("L19", [(path, node, isinstance(node.exc, ast.Call)) for path, node in nodes(ast.Raise)])
+        self.each("L19", [(path, node, isinstance(node.type, ast.Name)) for path, node in nodes(ast.ExceptHandler)])
+
+    def test_top_lists_and_dicts_hold_none(self):
+        for path, tree in trees():
+            values = [node.value for node in tree.body if isinstance(node, ast.Assign)]
+            inner = [part for value in values for part in ast.walk(value) if part is not value]
+            self.each("L15", [(path, node, not isinstance(node, (ast.List, ast.Dict, ast.Call))) for node in inner])
+            self.each("L3", [(path, node, not isinstance(node, ast.Call)) for node in values])
 
     def test_tops(self):
         for path, tree in trees():
