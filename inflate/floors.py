@@ -10,10 +10,14 @@ MOST_NUMBERS = 12
 MOST_PIECES = 300
 
 
-def refuse_no_floor(rule, kind):
+def refuse_no_fill(rule):
     lacking = lack(rule)
     if lacking is not None:
         raise NoFill(lacking)
+
+
+def refuse_no_floor(rule, kind):
+    refuse_no_fill(rule)
     refuse_no_kind(rule, kind)
 
 

@@ -62,6 +62,11 @@ class Frame:
             answer = self.times(answer, one)
         return answer
 
+    def mate(self, one):
+        # w and q - w are the two numbers whose square is p + q times themselves. With the one put for the other,
+        # a number becomes its mate, and both multiplied are a whole number: so one can be divided by.
+        return (one[0] + self.square[1] * one[1], -one[1])
+
     def sign(self, one):
         # Twice a + b w is c + b r, r being the root of q q + 4 p: the one of c and b r
         # that lies farther from 0 tells the sign, and their squares are whole numbers.

@@ -37,7 +37,12 @@ def twice(frame, shape):
 
 def where(frame, shape, point):
     # Outside is at the right hand of some side; who is not, but straight along one, is on the border.
-    return min([hand(frame, side, point) for side in sides(shape)])
+    answer = 1
+    for side in sides(shape):
+        answer = min(answer, hand(frame, side, point))
+        if answer == -1:
+            return answer
+    return answer
 
 
 def has_side_against(frame, one, other):

@@ -1,18 +1,22 @@
 """A second way of reckoning, to hold the program's answers against.
 
 Numbers are told here as u + v times the root of d, u and v fractions, or as decimals of very many
-places; points by their two distances from the axes. None of it draws from the program, but `redrawn`, which makes
-new rules of those that are written here.
+places; points by their two distances from the axes. None of it draws from the program, but `redrawn` and `mixed`,
+which make new rules of those that are written here. At the end of it: what the tests of more than one module ask for.
 """
 
+import copy
 import random
+import unittest
 from decimal import Decimal, getcontext
 from fractions import Fraction
 from functools import lru_cache
 from math import comb, isqrt
 
+from inflate import errors
 from inflate.frames import Frame
 from inflate.points import back, joined, moved, scaled
+from inflate.rules import Rule
 
 SIZES = (4, 6, 8, 10, 12)
 ROOTS = {4: 1, 6: 1, 8: 2, 10: 5, 12: 3}
@@ -204,6 +208,90 @@ def plane_floor(told, kind, n):
     return rows
 
 
+def plane_shared(one, other):
+    """How long the borders of both run together."""
+    total = Decimal(0)
+    for start, end in zip(one, one[1:] + one[:1]):
+        length = plane_far(start, end)
+        for begin, stop in zip(other, other[1:] + other[:1]):
+            if max(abs(plane_area([start, end, place])) for place in (begin, stop)) < NEAR:
+                along = sorted(sum((p - s) * (e - s) for p, s, e in zip(place, start, end)) / length
+                               for place in (begin, stop))
+                total += max(min(along[1], length) - max(along[0], 0), 0)
+    return total
+
+
+def plane_far(one, other):
+    return ((one[0] - other[0]) ** 2 + (one[1] - other[1]) ** 2).sqrt()
+
+
+# Where these three places are taken to tells a move.
+BASE = tuple((Decimal(right), Decimal(up)) for right, up in ((0, 0), (1, 0), (0, 1)))
+
+
+def plane_three(m, move):
+    return tuple(plane_moved(m, move, place) for place in BASE)
+
+
+def taken_by(three, place):
+    start, right, up = three
+    return tuple(s + place[0] * (r - s) + place[1] * (u - s) for s, r, u in zip(start, right, up))
+
+
+def taken_back_by(three, place):
+    start, right, up = three
+    return tuple(sum((p - s) * (e - s) for p, s, e in zip(place, start, end)) for end in (right, up))
+
+
+def plane_key(three):
+    """The same for the same moves, however they were reckoned."""
+    return tuple(number.quantize(Decimal(10) ** -100) for place in three for number in place)
+
+
+def plane_parts(told, kind, three):
+    """Rows (kind, three, places): the parts of a piece when it is cut."""
+    m, scale, shapes, cuts = told
+    times = decimal_value(m, scale)
+    far = [number * (times - 1) for number in three[0]]
+    great = tuple(tuple(p + q for p, q in zip(place, far)) for place in three)
+    rows = []
+    for part_kind, move in cuts[kind]:
+        part = tuple(taken_by(great, place) for place in plane_three(m, move))
+        rows.append((part_kind, part, [taken_by(part, in_plane(m, corner)) for corner in shapes[part_kind]]))
+    return rows
+
+
+def plane_led(told, one_kind, other_kind, three):
+    """Rows (i, j, kind, other kind, three): the neighbours among the parts of two pieces, or of one piece twice."""
+    rows = []
+    for i, (one, one_three, one_places) in enumerate(plane_parts(told, one_kind, BASE)):
+        for j, (other, other_three, other_places) in enumerate(plane_parts(told, other_kind, three)):
+            if plane_key(one_three) != plane_key(other_three) and plane_side_between(one_places, other_places):
+                rows.append((i, j, one, other, tuple(taken_back_by(one_three, place) for place in other_three)))
+    return rows
+
+
+def plane_relations(told, most):
+    """Rows (kind, other kind, key, reason) as point 19 has them, or None for more than so many."""
+    rows, waiting, seen = [], [], set()
+
+    def put(word, number, found):
+        for i, j, one, other, three in found:
+            key = (one, other, plane_key(three))
+            if key not in seen:
+                seen.add(key)
+                rows.append((*key, (word, number, i, j)))
+                waiting.append((one, other, three))
+
+    for kind in range(len(told[2])):
+        put("cut", kind, plane_led(told, kind, kind, BASE))
+    number = 0
+    while number < len(waiting) <= most:
+        put("led", number, plane_led(told, *waiting[number]))
+        number += 1
+    return rows if len(rows) <= most else None
+
+
 def source(word):
     """Always the same numbers for the same word."""
     return random.Random("inflate " + word)
@@ -344,6 +432,30 @@ def redrawn(draw, told):
         draw.shuffle(parts)
         new_cuts.append(parts)
     return m, scale, new_shapes, new_cuts
+
+
+def own_moves(m, shape):
+    """The moves by which the shape's corners come to lie on its corners."""
+    frame = Frame(m)
+    answer = []
+    for turn in range(m):
+        for flip in (0, 1):
+            put = [moved(frame, (turn, flip, ((0, 0), (0, 0))), corner) for corner in shape]
+            for corner in shape:
+                off = tuple(tuple(p - q for p, q in zip(*numbers)) for numbers in zip(corner, put[0]))
+                move = (turn, flip, off)
+                if sorted(moved(frame, move, point) for point in shape) == sorted(shape):
+                    answer.append(move)
+    return answer
+
+
+def mixed(draw, told):
+    """The same parts, each one put where it was by any of the moves that its shape allows."""
+    m, scale, shapes, cuts = told
+    frame = Frame(m)
+    own = [own_moves(m, shape) for shape in shapes]
+    new_cuts = [[(kind, joined(frame, draw.choice(own[kind]), move)) for kind, move in cut] for cut in cuts]
+    return m, scale, shapes, new_cuts
 
 
 # Rules that lack nothing.
@@ -667,4 +779,196 @@ cut
 part 1 3 0 3:0
 part 2 5 0 3:0
 part 2 7 0 0:0,3""",
+    "squares one way": """frame 4
+scale 2
+shape 0:0 1:0 1:1 0:1
+shape 0:0 2:0 2:2 0:2
+cut
+part 0 0 0 0:0
+part 0 0 0 1:0
+part 0 0 0 1:1
+part 0 0 0 0:1
+cut
+part 1 0 0 0:0
+part 1 0 0 2:0
+part 1 0 0 0:2
+part 0 0 0 2:2
+part 0 0 0 3:2
+part 0 0 0 2:3
+part 0 0 0 3:3""",
+    "offset squares": """frame 4
+scale 2
+shape 0:0 1:0 1:2 0:2
+shape 0:0 2:0 2:2 0:2
+cut
+part 1 0 0 0:0
+part 0 0 0 0:2
+part 0 0 0 1:2
+cut
+part 1 0 0 0:0
+part 1 0 0 2:0
+part 0 0 0 0:2
+part 1 0 0 1:2
+part 0 0 0 3:2""",
+    "squares with 120 relations": """frame 4
+scale 2
+shape 0:0 1:0 1:1 0:1
+shape 0:0 1:0 1:1 0:1
+cut
+part 0 3 0 0:1
+part 0 1 1 1:0
+part 1 3 0 0:2
+part 0 2 0 2:2
+cut
+part 1 3 0 0:1
+part 1 3 0 1:1
+part 1 2 0 1:2
+part 1 3 0 1:2""",
+    "squares with 121 relations": """frame 4
+scale 2
+shape 0:0 1:0 1:1 0:1
+shape 0:0 1:0 1:1 0:1
+cut
+part 0 1 1 0:0
+part 1 2 0 2:1
+part 1 0 1 0:2
+part 1 0 1 1:2
+cut
+part 1 3 1 1:1
+part 0 3 1 2:1
+part 0 3 1 1:2
+part 0 3 1 2:2""",
+    "triangles of two sizes": """frame 6
+scale 2
+shape 0:0 1:0 0:1
+shape 0:0 2:0 0:2
+cut
+part 1 0 0 0:0
+cut
+part 1 0 0 0:0
+part 1 0 0 2:0
+part 1 1 0 2:0
+part 0 0 0 0:2
+part 0 0 0 1:2
+part 0 0 0 0:3
+part 0 1 0 1:2""",
+    "half squares in turn": """frame 8
+scale 0,1
+shape 0:0 1:0 -1:0,1
+shape 0:0 0,1:0 0,-1:2
+cut
+part 1 0 0 0:0
+cut
+part 0 0 0 0:0
+part 0 0 0 1:0
+part 0 0 0 -1:0,1
+part 0 4 0 0:0,1""",
+    "golden strips": """frame 10
+scale 2
+shape 0:0 1:0 1:1 0:1
+shape 0:0 0,1:0 0,1:1 0:1
+shape 0:0 1,1:0 1,1:1 0:1
+cut
+part 0 0 0 0:0
+part 0 0 0 1:0
+part 0 0 0 0:1
+part 0 0 0 1:1
+cut
+part 1 0 0 0:0
+part 1 0 0 0,1:0
+part 1 0 0 0:1
+part 1 0 0 0,1:1
+cut
+part 2 0 0 0:0
+part 2 0 0 1,1:0
+part 0 0 0 0:1
+part 1 0 0 1:1
+part 1 0 0 1,1:1
+part 0 0 0 1,2:1""",
+    "rectangles by one and root 3": """frame 12
+scale 1,1
+shape 0:0 2:0 2,-2:4 0,-2:4
+shape 0:0 2:0 -1,-1:2,2 -3,-1:2,2
+shape 0:0 1,1:0 -2:2,2 -3,-1:2,2
+cut
+part 2 0 0 0:0
+part 2 0 0 1,1:0
+part 2 0 0 -3,-1:2,2
+part 2 0 0 -2:2,2
+cut
+part 1 3 0 1,1:0
+part 1 3 0 2,2:0
+part 2 0 0 0,-2:4
+part 2 0 0 1,-1:4
+part 2 0 0 -3,-3:6,2
+part 2 0 0 -2,-2:6,2
+cut
+part 0 0 0 0:0
+part 1 3 0 3,1:0
+part 1 3 0 4,2:0
+part 1 0 0 0,-2:4
+part 2 0 0 2,-2:4
+part 2 0 0 3,-1:4
+part 1 0 0 -3,-3:6,2
+part 2 0 0 -1,-3:6,2
+part 2 0 0 0,-2:6,2""",
 }
+
+MOST = 300
+
+
+def how_many(told, kind, n):
+    """How many pieces a floor has, told by numbers alone."""
+    totals = [1] * len(told[2])
+    for _ in range(n):
+        totals = [sum(totals[part_kind] for part_kind, _ in cut) for cut in told[3]]
+    return totals[kind]
+
+
+def some_address(draw, told, kind, n):
+    address = ()
+    for _ in range(n):
+        number = draw.randrange(len(told[3][kind]))
+        address += (number,)
+        kind = told[3][kind][number][0]
+    return address
+
+
+def lacking_rules():
+    """Rules that lack something, with the lack."""
+    m, scale, shapes, cuts = full("golden in three and two")
+    yield (m, scale, shapes, [cuts[0][:2], cuts[1]]), ("gap", 0, (0, 1))
+    yield (m, scale, shapes, [cuts[0], cuts[1][1:]]), ("gap", 1, (1, 1))
+    yield (m, scale, shapes, [cuts[0] + cuts[0][:1], cuts[1]]), ("overlap", 0, 0, 3)
+    yield (m, scale, shapes, [cuts[0], cuts[1] + cuts[0]]), ("outside", 1, 3)
+    yield (m, scale, shapes, [cuts[0], cuts[0]]), ("outside", 1, 1)
+    m, scale, shapes, cuts = full("square in nine")
+    yield (m, scale, shapes, [cuts[0][:8]]), ("gap", 0, (2, 0))
+    yield (m, (4, 0), shapes, cuts), ("gap", 0, (14, 0))
+    yield (m, (2, 0), shapes, cuts), ("outside", 0, 1)
+
+
+class FloorsTest(unittest.TestCase):
+    def each_rule(self, anew=1):
+        """Each rule as it is written and redrawn."""
+        for name in FULL:
+            draw = source(f"{self.id()} {name}")
+            yield full(name), draw
+            for _ in range(anew):
+                yield redrawn(draw, full(name)), draw
+
+    def each_floor(self, most=MOST, deepest=5, anew=1):
+        for told, draw in self.each_rule(anew):
+            rule = Rule(*told)
+            for kind in range(len(told[2])):
+                for n in range(deepest + 1):
+                    if how_many(told, kind, n) <= most:
+                        yield told, draw, rule, kind, n
+
+    def refused(self, name, call, *handed):
+        before = copy.deepcopy(handed[1:])
+        with self.assertRaises(errors.FloorError, msg=repr(handed)) as taken:
+            call(*handed)
+        self.assertIs(taken.exception.__class__, getattr(errors, name), handed)
+        self.assertEqual(handed[1:], before)
+        return taken.exception

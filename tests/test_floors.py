@@ -2,32 +2,22 @@ import copy
 import itertools
 import unittest
 
-from inflate import errors
 from inflate.floors import floor_of, holders, piece_at
 from inflate.frames import Frame, plus
 from inflate.looks import corners, greater, lack
 from inflate.points import added, joined, scaled
 from inflate.rules import Rule
 from inflate.shapes import are_apart, twice, where
-from tests.helper import (FULL, full, in_plane, is_move, is_whole, plane_floor, plane_where, redrawn, same_place,
-                          some_small, source)
+from tests.helper import (FULL, MOST, FloorsTest, full, how_many, in_plane, is_move, is_whole, lacking_rules,
+                          plane_floor, plane_where, same_place, some_address, some_small, source)
 
 ORIGIN = ((0, 0), (0, 0))
 STAY = (0, 0, ORIGIN)
 FAR = ((10 ** 40, 0), (-10 ** 40, 0))
-MOST = 300
 
 
 def off(x, y):
     return ((x, 0), (y, 0))
-
-
-def how_many(told, kind, n):
-    """How many pieces a floor has, told by numbers alone."""
-    totals = [1] * len(told[2])
-    for _ in range(n):
-        totals = [sum(totals[part_kind] for part_kind, _ in cut) for cut in told[3]]
-    return totals[kind]
 
 
 def due_piece(told, kind, address):
@@ -40,55 +30,6 @@ def due_piece(told, kind, address):
     last_kind, move = due_piece(told, part_kind, address[1:])
     great = (turn, flip, scaled(frame, place, frame.power(scale, len(address) - 1)))
     return (last_kind, joined(frame, move, great))
-
-
-def some_address(draw, told, kind, n):
-    address = ()
-    for _ in range(n):
-        number = draw.randrange(len(told[3][kind]))
-        address += (number,)
-        kind = told[3][kind][number][0]
-    return address
-
-
-def lacking_rules():
-    """Rules that lack something, with the lack."""
-    m, scale, shapes, cuts = full("golden in three and two")
-    yield (m, scale, shapes, [cuts[0][:2], cuts[1]]), ("gap", 0, (0, 1))
-    yield (m, scale, shapes, [cuts[0], cuts[1][1:]]), ("gap", 1, (1, 1))
-    yield (m, scale, shapes, [cuts[0] + cuts[0][:1], cuts[1]]), ("overlap", 0, 0, 3)
-    yield (m, scale, shapes, [cuts[0], cuts[1] + cuts[0]]), ("outside", 1, 3)
-    yield (m, scale, shapes, [cuts[0], cuts[0]]), ("outside", 1, 1)
-    m, scale, shapes, cuts = full("square in nine")
-    yield (m, scale, shapes, [cuts[0][:8]]), ("gap", 0, (2, 0))
-    yield (m, (4, 0), shapes, cuts), ("gap", 0, (14, 0))
-    yield (m, (2, 0), shapes, cuts), ("outside", 0, 1)
-
-
-class FloorsTest(unittest.TestCase):
-    def each_rule(self, anew=1):
-        """Each rule as it is written and redrawn."""
-        for name in FULL:
-            draw = source(f"{self.id()} {name}")
-            yield full(name), draw
-            for _ in range(anew):
-                yield redrawn(draw, full(name)), draw
-
-    def each_floor(self, most=MOST, deepest=5, anew=1):
-        for told, draw in self.each_rule(anew):
-            rule = Rule(*told)
-            for kind in range(len(told[2])):
-                for n in range(deepest + 1):
-                    if how_many(told, kind, n) <= most:
-                        yield told, draw, rule, kind, n
-
-    def refused(self, name, call, *handed):
-        before = copy.deepcopy(handed[1:])
-        with self.assertRaises(errors.FloorError, msg=repr(handed)) as taken:
-            call(*handed)
-        self.assertIs(taken.exception.__class__, getattr(errors, name), handed)
-        self.assertEqual(handed[1:], before)
-        return taken.exception
 
 
 class FloorOfTest(FloorsTest):
