@@ -43,6 +43,13 @@ def steps(rule, pair):
     return rule.reckoned[key]
 
 
+def side_of(rule, pair):
+    key = ("side", pair)
+    if key not in rule.reckoned:
+        rule.reckoned[key] = side_between(rule.frame(), corners(rule, (pair[0], STAY)), corners(rule, pair[1:]))
+    return rule.reckoned[key]
+
+
 def cut_rows(rule, rows, number):
     answer = []
     for address, pair in rows:
@@ -52,8 +59,8 @@ def cut_rows(rule, rows, number):
     return answer
 
 
-def neighbours(rule, kind, address):
-    # Asked for the sake of its refusals.
+def beside(rule, kind, address):
+    # Rows of the neighbours' addresses and the relations of the piece to them. Asked for the sake of its refusals:
     piece_at(rule, kind, address)
     cuts = rule.cuts()
     here = kind
@@ -62,7 +69,11 @@ def neighbours(rule, kind, address):
         # Who lies beside a part is a part of the same piece, or of one that lies beside that piece.
         rows = cut_rows(rule, rows + [(address[:place], to_itself(here))], number)
         here = cuts[here][number][0]
-    return sorted([beside for beside, pair in rows])
+    return rows
+
+
+def neighbours(rule, kind, address):
+    return sorted([other for other, pair in beside(rule, kind, address)])
 
 
 def relation(rule, one, other):
@@ -107,10 +118,8 @@ def is_whole_side(shape, side):
 
 
 def is_side_on_side(rule, pair):
-    one = corners(rule, (pair[0], STAY))
-    other = corners(rule, (pair[1], pair[2]))
-    side = side_between(rule.frame(), one, other)
-    return is_whole_side(one, side) and is_whole_side(other, side)
+    side = side_of(rule, pair)
+    return is_whole_side(corners(rule, (pair[0], STAY)), side) and is_whole_side(corners(rule, pair[1:]), side)
 
 
 def side_on_side(rule):

@@ -292,6 +292,47 @@ def plane_relations(told, most):
     return rows if len(rows) <= most else None
 
 
+def plane_whole(told, kind, others):
+    """Whether the borders of the others (kind, three) run along all the border of the kind's shape."""
+    m, shapes = told[0], told[2]
+    places = [in_plane(m, corner) for corner in shapes[kind]]
+    around = [[taken_by(three, in_plane(m, corner)) for corner in shapes[other]] for other, three in others]
+    length = sum(plane_far(one, other) for one, other in zip(places, places[1:] + places[:1]))
+    return abs(length - sum(plane_shared(places, other) for other in around)) < NEAR
+
+
+def plane_stars(told, most):
+    """Rows (kind, others, whole, reason) as point 26 has them, the others as a set of tuples (kind, key), and what the
+    parts of each are: lists of tuples (kind, others). None for more rows than so many."""
+    rows, waiting, parts, seen, beside = [], [], [], set(), {}
+
+    def led(one, other, three):
+        key = (one, other, plane_key(three))
+        if key not in beside:
+            beside[key] = plane_led(told, one, other, three)
+        return beside[key]
+
+    def put(kind, others, reason):
+        star = (kind, frozenset(others))
+        if star not in seen:
+            seen.add(star)
+            waiting.append((kind, others))
+            pieces = [(other, three) for (other, key), three in others.items()]
+            rows.append((*star, plane_whole(told, kind, pieces), reason))
+        return star
+
+    for kind in range(len(told[2])):
+        put(kind, {}, ("bare", kind))
+    while len(parts) < len(waiting) <= most:
+        kind, others = waiting[len(parts)]
+        found = led(kind, kind, BASE)
+        for (other, key), three in others.items():
+            found = found + led(kind, other, three)
+        parts.append([put(part_kind, {(row[3], plane_key(row[4])): row[4] for row in found if row[0] == i},
+                          ("cut", len(parts), i)) for i, (part_kind, move) in enumerate(told[3][kind])])
+    return (rows, parts) if len(rows) <= most else None
+
+
 def source(word):
     """Always the same numbers for the same word."""
     return random.Random("inflate " + word)
@@ -432,6 +473,13 @@ def redrawn(draw, told):
         draw.shuffle(parts)
         new_cuts.append(parts)
     return m, scale, new_shapes, new_cuts
+
+
+def reordered(told, order):
+    """The same rule, the kind order[k] being told as the kind k."""
+    m, scale, shapes, cuts = told
+    return (m, scale, [shapes[kind] for kind in order],
+            [[(order.index(part), move) for part, move in cuts[kind]] for kind in order])
 
 
 def own_moves(m, shape):

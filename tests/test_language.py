@@ -109,6 +109,8 @@ class LanguageTest(unittest.TestCase):
                           if isinstance(how, (ast.Is, ast.IsNot))])
         self.each("L27", [(path, node, isinstance(node.right, ast.Constant) and 0 <= node.right.value <= 64)
                           for path, node in nodes(ast.BinOp) if isinstance(node.op, ast.Pow)])
+        self.each("L7", [(path, node, isinstance(node.value, ast.Name) and node.format_spec is None)
+                         for path, node in nodes(ast.FormattedValue)])
         self.each("L27", [(path, node, "%" not in node.value)
                           for path, node in nodes(ast.Constant) if isinstance(node.value, str)])
 

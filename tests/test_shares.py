@@ -7,8 +7,8 @@ from math import gcd
 from inflate.counts import counts, table
 from inflate.rules import Rule
 from inflate.shares import direction
-from tests.helper import (FULL, SIZES, FloorsTest, full, is_number, is_whole, lacking_rules, mixed, rooted,
-                          rooted_power, rooted_product, rooted_sign, source)
+from tests.helper import (FULL, SIZES, FloorsTest, full, is_number, is_whole, lacking_rules, mixed, reordered,
+                          rooted, rooted_power, rooted_product, rooted_sign, source)
 
 # Rules that have a kind that does not come from some kind.
 SHARELESS = ("squares 300", "squares 301", "squares one way", "squares with 120 relations", "hexagon in six",
@@ -21,13 +21,6 @@ def left_out(told, kind):
     assert all(part[0] != kind for number, cut in enumerate(cuts) if number != kind for part in cut)
     return (m, scale, shapes[:kind] + shapes[kind + 1:],
             [[(part - (part > kind), move) for part, move in cut] for number, cut in enumerate(cuts) if number != kind])
-
-
-def reordered(told, order):
-    """The same rule, the kind order[k] being told as the kind k."""
-    m, scale, shapes, cuts = told
-    return (m, scale, [shapes[kind] for kind in order],
-            [[(order.index(part), move) for part, move in cuts[kind]] for kind in order])
 
 
 def kinds_from(cuts, kind):
