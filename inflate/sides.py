@@ -60,7 +60,8 @@ def cut_rows(rule, rows, number):
 
 
 def beside(rule, kind, address):
-    # Rows of the neighbours' addresses and the relations of the piece to them. Asked for the sake of its refusals:
+    # The neighbours' addresses, each with the relation of the piece to it. The piece is asked for the sake of
+    # its refusals.
     piece_at(rule, kind, address)
     cuts = rule.cuts()
     here = kind

@@ -58,7 +58,8 @@ def found_stars(rule):
         put_star(rule, rows, known, (kind, ()), ("bare", kind))
     number = 0
     while number < len(rows):
-        for i, found in enumerate(cut_stars(rule, rows[number][0], rows[number][1])):
+        cut = cut_stars(rule, rows[number][0], rows[number][1])
+        for i, found in enumerate(cut):
             put_star(rule, rows, known, found, ("cut", number, i))
         number = number + 1
     return rows

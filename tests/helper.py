@@ -266,7 +266,9 @@ def plane_led(told, one_kind, other_kind, three):
     rows = []
     for i, (one, one_three, one_places) in enumerate(plane_parts(told, one_kind, BASE)):
         for j, (other, other_three, other_places) in enumerate(plane_parts(told, other_kind, three)):
-            if plane_key(one_three) != plane_key(other_three) and plane_side_between(one_places, other_places):
+            # Pieces of unlike kinds may have like moves and lie side by side.
+            same = one == other and plane_key(one_three) == plane_key(other_three)
+            if not same and plane_side_between(one_places, other_places):
                 rows.append((i, j, one, other, tuple(taken_back_by(one_three, place) for place in other_three)))
     return rows
 
@@ -844,6 +846,20 @@ part 0 0 0 2:2
 part 0 0 0 3:2
 part 0 0 0 2:3
 part 0 0 0 3:3""",
+    "squares side by side": """frame 4
+scale 2
+shape 0:0 1:0 1:1 0:1
+shape 1:0 2:0 2:1 1:1
+cut
+part 0 0 0 0:0
+part 1 0 0 0:0
+part 0 0 0 0:1
+part 1 0 0 0:1
+cut
+part 0 0 0 2:0
+part 1 0 0 2:0
+part 0 0 0 2:1
+part 1 0 0 2:1""",
     "offset squares": """frame 4
 scale 2
 shape 0:0 1:0 1:2 0:2

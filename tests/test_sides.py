@@ -19,9 +19,9 @@ STAY = (0, 0, ORIGIN)
 MOST_RELATIONS = 120
 TOO_MANY = ("squares with 121 relations", "golden strips")
 SIDE_ON_SIDE = (
-    "square in four", "square in nine", "half square in four", "squares with 120 relations", "triangle in four",
-    "triangle in nine", "hexagon in six", "half hexagon in four", "half square in two", "rectangle in two",
-    "slow half squares", "half squares in turn", "right triangle in three", "rectangle in three",
+    "square in four", "square in nine", "half square in four", "squares with 120 relations", "squares side by side",
+    "triangle in four", "triangle in nine", "hexagon in six", "half hexagon in four", "half square in two",
+    "rectangle in two", "slow half squares", "half squares in turn", "right triangle in three", "rectangle in three",
     "hexagon in six by root 3")
 
 
@@ -115,6 +115,14 @@ class NeighboursTest(SidesTest):
         # The first two parts have just a corner in common.
         self.assertEqual([neighbours(rule, 0, (number,)) for number in range(3)], [[(2,)], [(2,)], [(0,), (1,)]])
         self.assertEqual(neighbours(rule, 1, (0,)), [(1,)])
+
+    def test_unlike_kinds_with_like_moves(self):
+        # The shapes lie beside one another as they are told, so their moves are the same.
+        rule = Rule(*full("squares side by side"))
+        self.assertEqual([neighbours(rule, 0, (number,)) for number in range(4)],
+                         [[(1,), (2,)], [(0,), (3,)], [(0,), (3,)], [(1,), (2,)]])
+        self.assertIn(((0, 1, STAY), ("cut", 0, 0, 1)), relations(rule))
+        self.assertEqual(led(rule, (0, 0, (0, 0, off(0, 1))), 2, 0), (0, 0, (0, 0, off(0, 1))))
 
     def test_none_for_the_whole(self):
         for told, draw in self.each_way():

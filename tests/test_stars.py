@@ -20,7 +20,7 @@ TOO_MANY_RELATIONS = ("squares with 121 relations", "golden strips")
 TOO_MANY = TOO_MANY_RELATIONS + ("squares with 120 relations",)
 # With parts turned and mirrored anew these may have too many.
 GREAT = ("domino in four", "squares 300", "squares 301", "squares 300 thrice", "squares one way", "offset squares",
-         "rectangles by one and root 3")
+         "squares side by side", "rectangles by one and root 3")
 NEVER = ("domino in four", "half hexagon in four", "offset squares")
 
 JUST_300 = """frame 6
@@ -193,6 +193,12 @@ class StarTest(StarsTest):
         kind, others, whole = star(rule, 1, (0, 3))
         self.assertIs(whole, True)
         self.assertEqual((kind, len(others)), (1, 6))
+
+    def test_unlike_kinds_with_like_moves(self):
+        rule = Rule(*full("squares side by side"))
+        self.assertEqual(star(rule, 0, (0,)), (0, ((0, (0, 0, off(0, 1))), (1, STAY)), False))
+        self.assertEqual(star(rule, 1, (0, 3)), (1, (
+            (0, STAY), (0, (0, 0, off(2, 0))), (1, (0, 0, off(0, -1))), (1, (0, 0, off(0, 1)))), True))
 
     def test_half_a_side_open(self):
         # The greater square has a lesser one at each half of a side, but for the last.
